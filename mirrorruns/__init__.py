@@ -1,0 +1,1 @@
+"""Mirrorruns: stretches of a row that read alike both ways."""
