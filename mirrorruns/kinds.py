@@ -6,6 +6,11 @@ def is_whole(thing):
     return isinstance(thing, int) and not isinstance(thing, bool)
 
 
+# By == alone True would pass for 1, and False for 0.
+def is_same_number(thing, number):
+    return is_whole(thing) and thing == number
+
+
 def is_stretch(thing, length):
     if not isinstance(thing, tuple) or len(thing) != 2:
         return False

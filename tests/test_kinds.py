@@ -1,6 +1,6 @@
 import unittest
 
-from mirrorruns.kinds import is_stretch, is_whole
+from mirrorruns.kinds import is_same_number, is_stretch, is_whole
 from things import NO_ROWS
 
 
@@ -18,6 +18,20 @@ class WholeNumbers(unittest.TestCase):
         for thing in ("", "0", "a", None, [], [0], (), (0,), {}, {0: 0}):
             with self.subTest(thing):
                 self.assertIs(is_whole(thing), False)
+
+
+class SameNumbers(unittest.TestCase):
+    def test_numbers_alike_and_unlike(self):
+        for thing in (0, 1, -1, 10 ** 40 - 1):
+            for number in (0, 1, -1, 10 ** 40 - 1):
+                with self.subTest(thing=thing, number=number):
+                    self.assertIs(is_same_number(thing, number), thing == number)
+
+    def test_things_of_other_kinds(self):
+        for thing in (True, False, None, "0", "1", [], [0], (1,), {}):
+            for number in (0, 1):
+                with self.subTest(thing=thing, number=number):
+                    self.assertIs(is_same_number(thing, number), False)
 
 
 class Stretches(unittest.TestCase):

@@ -1,11 +1,9 @@
 import unittest
-from itertools import product
 
 from mirrorruns.errors import NoRow
 from mirrorruns.rows import back, is_mirror, is_row, need_row, reads_alike
-from things import NO_ROWS, OTHER_KINDS, TEXTS_THAT_ARE_NO_ROWS, stays
+from things import ALPHABET, NO_ROWS, OTHER_KINDS, TEXTS_THAT_ARE_NO_ROWS, same_from_both_ends, small_rows, stays
 
-ALPHABET = "abcdefghijklmnopqrstuvwxyz"
 PAIRS_OF_NO_STRETCH = [
     (0, 4), (3, 4), (4, 4), (201, 201), (0, 10 ** 40 - 1), (10 ** 40 - 1, 10 ** 40 - 1),
     (-1, 0), (-1, 1), (-1, -1), (-3, -1), (-3, 0), (0, -1), (-(10 ** 40 - 1), 3),
@@ -18,22 +16,6 @@ PAIRS_OF_NO_STRETCH = [
 NO_STRETCHES = PAIRS_OF_NO_STRETCH + TEXTS_THAT_ARE_NO_ROWS + [
     "", "a", "ab", "aba", "abc", "01", "0-1",
 ] + [thing for thing in OTHER_KINDS if repr(thing) not in ("(0, 0)", "(0, 1)")]
-
-
-def small_rows():
-    rows = [""]
-    for letters, longest in (("ab", 7), ("abc", 4), ("xyz", 3)):
-        for length in range(1, longest + 1):
-            rows.extend("".join(signs) for signs in product(letters, repeat=length))
-    return rows
-
-
-# Sign against sign, from both ends: another way than the program's.
-def same_from_both_ends(text):
-    for place in range(len(text)):
-        if text[place] != text[len(text) - 1 - place]:
-            return False
-    return True
 
 
 class IsRow(unittest.TestCase):
