@@ -16,6 +16,12 @@ def ends_ahead(told, behind):
     return [behind - first for first in range(behind) if told[first + behind - 1] >= behind - first]
 
 
+# For each place, the row's length among them, the ends of the signs ahead of it.
+def ends_by_place(row):
+    told = reaches(row)
+    return [ends_ahead(told, behind) for behind in range(len(row) + 1)]
+
+
 # A mirror turned about is the same text, so those that a row begins with end it when it is turned about.
 def begins(row):
     return ends(back(row))

@@ -1,6 +1,6 @@
 """Rows: what is one, what is a mirror, a row turned about, stretches that read alike."""
 
-from mirrorruns.errors import NoRow
+from mirrorruns.errors import NoMirror, NoRow
 from mirrorruns.kinds import is_stretch
 
 LETTERS = "abcdefghijklmnopqrstuvwxyz"
@@ -21,6 +21,11 @@ def need_row(thing):
 
 def is_mirror(thing):
     return is_row(thing) and thing != "" and thing == back(thing)
+
+
+def need_mirror(thing):
+    if not is_mirror(thing):
+        raise NoMirror("a mirror is a row of one sign or more that reads alike from both ends")
 
 
 def back(row):

@@ -1,26 +1,31 @@
 """Trees: each mirror of a row once, with its inner and its less."""
 
-from mirrorruns.ends import ends_ahead
-from mirrorruns.errors import NoMirror, NoNumber
+from mirrorruns.ends import ends_by_place
+from mirrorruns.errors import NoNumber
 from mirrorruns.kinds import is_same_number, is_whole
-from mirrorruns.reaches import reaches
-from mirrorruns.rows import is_mirror, need_row
+from mirrorruns.rows import need_mirror, need_row
 
 
 # Of the mirrors that end at a place the longest alone can be new: each shorter one is a beginning of it too, and so
-# stood in the row ahead. The text without signs never has a number, so get tells None for it.
+# stood in the row ahead.
 def tree(row):
-    far = reaches(row)
+    lengths = ends_by_place(row)
     numbers = {}
     told = []
     for behind in range(1, len(row) + 1):
-        lengths = ends_ahead(far, behind) + [0]
-        text = row[behind - lengths[0]:behind]
-        less = row[behind - lengths[1]:behind]
-        if text not in numbers:
-            numbers[text] = len(told)
-            told.append((text, numbers.get(text[1:-1]), numbers.get(less)))
+        entry = longest_entry(row[:behind], lengths[behind], numbers)
+        if entry[0] not in numbers:
+            numbers[entry[0]] = len(told)
+            told.append(entry)
     return told
+
+
+# What the tree has of the longest of a row's ends. Its inner and its less stood in the row ahead, so numbers has them;
+# the text without signs never has a number, so get tells None for it.
+def longest_entry(row, lengths, numbers):
+    text = row[len(row) - lengths[0]:]
+    less = text[len(text) - lengths[1]:] if len(lengths) > 1 else ""
+    return (text, numbers.get(text[1:-1]), numbers.get(less))
 
 
 def is_tree(thing, row):
@@ -44,8 +49,7 @@ def is_elder(thing, wanted):
 
 def number_of(row, text):
     need_row(row)
-    if not is_mirror(text):
-        raise NoMirror("a mirror is a row of one sign or more that reads alike from both ends")
+    need_mirror(text)
     for number, entry in enumerate(tree(row)):
         if entry[0] == text:
             return number

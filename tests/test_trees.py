@@ -5,29 +5,12 @@ from mirrorruns.errors import NoMirror, NoNumber, NoRow
 from mirrorruns.rows import is_mirror
 from mirrorruns.trees import is_tree, number_of, tree, way
 from things import (
-    ALPHABET, GREAT, NO_NUMBERS, NO_ROWS, all_rows, is_own, long_rows, middling_rows, mirror_stretches, refused_by,
-    same_from_both_ends, small_rows, stays, told,
+    ALPHABET, GREAT, NO_MIRRORS, NO_NUMBERS, NO_ROWS, all_rows, is_own, long_rows, middling_rows, refused_by,
+    same_from_both_ends, small_rows, stays, told, tree_by_stretches,
 )
 
 ROWS = all_rows("ab", 8) + all_rows("abc", 5) + middling_rows()
 FEW_ROWS = ["a", "aa", "ab", "aba", "abba", "aabaa", "abcab", "banana", "aaabaaa"]
-NO_MIRRORS = NO_ROWS + ["", "ab", "abc", "aab", "abab", "a" * 199 + "b", ALPHABET]
-
-
-# All mirrors of the row, by where the first stretch of each one ends.
-def tree_by_stretches(row):
-    first_end = {}
-    for first, behind in mirror_stretches(row):
-        text = row[first:behind]
-        first_end[text] = min(behind, first_end.get(text, behind))
-    texts = sorted(first_end, key=first_end.get)
-    number = {text: place for place, text in enumerate(texts)}
-    answer = []
-    for text in texts:
-        shorter = [text[place:] for place in range(1, len(text)) if same_from_both_ends(text[place:])]
-        less = number[shorter[0]] if shorter else None
-        answer.append((text, number[text[1:-1]] if len(text) > 2 else None, less))
-    return answer
 
 
 def with_one_entry_as(right, number, entry):

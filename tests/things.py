@@ -35,6 +35,8 @@ TEXTS_THAT_ARE_NO_ROWS = [
 
 NO_ROWS = OTHER_KINDS + TEXTS_THAT_ARE_NO_ROWS
 
+NO_MIRRORS = NO_ROWS + ["", "ab", "abc", "aab", "abab", "a" * 199 + "b", ALPHABET]
+
 NO_NUMBERS = TEXTS_THAT_ARE_NO_ROWS + ["", "a", "aba", "abc"] + [
     thing for thing in OTHER_KINDS if thing.__class__ is not int
 ]
@@ -101,6 +103,22 @@ def mirror_stretches(row):
     return [(first, behind) for first, behind in pairs if same_from_both_ends(row[first:behind])]
 
 
+# All mirrors of the row, by where the first stretch of each one ends.
+def tree_by_stretches(row):
+    first_end = {}
+    for first, behind in mirror_stretches(row):
+        text = row[first:behind]
+        first_end[text] = min(behind, first_end.get(text, behind))
+    texts = sorted(first_end, key=first_end.get)
+    number = {text: place for place, text in enumerate(texts)}
+    answer = []
+    for text in texts:
+        shorter = [text[place:] for place in range(1, len(text)) if same_from_both_ends(text[place:])]
+        less = number[shorter[0]] if shorter else None
+        answer.append((text, number[text[1:-1]] if len(text) > 2 else None, less))
+    return answer
+
+
 # repr tells True from 1 and a list from a tuple, which == does not or not everywhere.
 def stays(ask, *handed):
     ahead = repr(deepcopy(handed))
@@ -124,12 +142,28 @@ def refused_by(ask, *handed):
     return None
 
 
+# From within: what is told within a list, dict or tuple has to be the asker's own too.
+def spoil(thing):
+    if isinstance(thing, dict):
+        for value in list(thing.values()):
+            spoil(value)
+        thing.clear()
+        thing["more"] = "more"
+    elif isinstance(thing, (list, tuple)):
+        for member in thing:
+            spoil(member)
+    if isinstance(thing, list):
+        thing.reverse()
+        thing.clear()
+        thing.append("more")
+
+
 def is_own(ask, *handed):
-    """Whether the list told is new each time: what is done to one changes no other."""
+    """Whether what is told is new each time: what is done to one answer changes no other."""
     first = ask(*handed)
-    wanted = repr(first)
-    first.append("more")
     second = ask(*handed)
-    second.reverse()
-    second.clear()
-    return repr(ask(*handed)) == wanted
+    wanted = repr(first)
+    spoil(first)
+    unspoilt = repr(second) == wanted
+    spoil(second)
+    return unspoilt and repr(ask(*handed)) == wanted
